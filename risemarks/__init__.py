@@ -1,0 +1,1 @@
+"""Risemarks: marks handed out by many hands so that they rise."""
