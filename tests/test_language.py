@@ -34,6 +34,12 @@ METHODS = set(
     "items join keys ljust lower lstrip partition pop remove replace reverse rfind rjust rpartition rsplit rstrip "
     "setdefault split splitlines startswith strip update upper values zfill bit_length".split()
 )
+KEYWORDS = {
+    "sorted": ("key", "reverse"), "min": ("key", "default"), "max": ("key", "default"), "sum": ("start",),
+    "enumerate": ("start",), "zip": ("strict",),
+}
+WALKED = ("zip", "enumerate", "reversed", "range", "items", "keys", "values")
+WALKERS = ("list", "tuple", "dict", "sorted", "sum", "any", "all", "enumerate", "zip", "min", "max")
 TWO_UNDERSCORES = ("__init__", "__eq__", "__repr__", "__str__", "__len__")
 NOWHERE = set("register mro elements open input version_info with_traceback add_note format format_map args".split())
 NO_NAMES = set("attrgetter gc importlib methodcaller os sys".split())
@@ -60,6 +66,14 @@ def nodes(kind):
             if isinstance(node, kind):
                 found.append((f"{path.name}:{getattr(node, 'lineno', 0)}", node))
     return found
+
+
+# One list for the checks that ask whether one node stands within another.
+NODES = nodes(ast.AST)
+
+
+def name_called(call):
+    return call.func.id if isinstance(call.func, ast.Name) else getattr(call.func, "attr", "")
 
 
 def bound_names(path):
@@ -198,6 +212,50 @@ class Forms(unittest.TestCase):
                 self.assertIn(node.right.value, range(65), where)
 
 
+class Calls(unittest.TestCase):
+    def test_keywords_at_pythons_own_names(self):
+        for where, node in nodes(ast.Call):
+            if isinstance(node.func, ast.Name) and node.func.id in OWN_OF_PYTHON:
+                for keyword in node.keywords:
+                    self.assertIn(keyword.arg, KEYWORDS.get(node.func.id, ()), where)
+
+    def test_what_is_walked_on_the_spot(self):
+        self.check_places(WALKED, WALKERS + ("join",))
+
+    def test_sets_are_not_kept(self):
+        self.check_places(("set", "frozenset"), ("sorted", "len"))
+
+    def check_places(self, called, callers):
+        """Each call of these stands straight in a call of the callers, behind an `in`, or beside ==."""
+        good = set()
+        for where, node in NODES:
+            if isinstance(node, (ast.For, ast.comprehension)):
+                good.add(node.iter)
+            if isinstance(node, ast.Compare):
+                good.update([node.left] + node.comparators)
+            if isinstance(node, ast.Call) and name_called(node) in callers:
+                good.update(node.args)
+        for where, node in NODES:
+            if isinstance(node, ast.Call) and name_called(node) in called:
+                self.assertIn(node, good, where)
+
+    def test_pythons_own_names_are_called_and_not_kept(self):
+        good = set()
+        for where, node in NODES:
+            if isinstance(node, ast.Call):
+                good.add(node.func)
+                good.update(keyword.value for keyword in node.keywords if keyword.arg == "key")
+                if name_called(node) == "isinstance":
+                    good.update(ast.walk(node.args[1]))
+            if isinstance(node, (ast.ClassDef, ast.ExceptHandler)):
+                good.update(node.bases if isinstance(node, ast.ClassDef) else ast.walk(node.type))
+            if isinstance(node, ast.Attribute) and node.attr == "__init__":
+                good.add(node.value)
+        for where, node in NODES:
+            if isinstance(node, ast.Name) and node.id in OWN_OF_PYTHON:
+                self.assertIn(node, good, where)
+
+
 class Names(unittest.TestCase):
     def test_names_that_are_read(self):
         for where, node in nodes(ast.Name):
@@ -219,6 +277,20 @@ class Names(unittest.TestCase):
         for where, node in nodes((ast.FunctionDef, ast.ClassDef)):
             if node.name not in TWO_UNDERSCORES:
                 self.check(node.name, where)
+
+    def test_no_parameter_and_no_local_is_called_like_a_class_or_an_import_of_its_file(self):
+        for path in files():
+            taken = set()
+            tree = tree_of(path)
+            for node in tree.body:
+                if isinstance(node, ast.ClassDef):
+                    taken.add(node.name)
+                if isinstance(node, ast.ImportFrom):
+                    taken.update(alias.asname or alias.name for alias in node.names)
+            given = {node.arg for node in ast.walk(tree) if isinstance(node, ast.arg)}
+            names = [node for node in ast.walk(tree) if isinstance(node, ast.Name)]
+            given.update(node.id for node in names if isinstance(node.ctx, ast.Store))
+            self.assertEqual(given & taken, set(), path.name)
 
     def test_attributes(self):
         own = {node.name for where, node in nodes(ast.FunctionDef)}
