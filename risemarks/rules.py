@@ -1,7 +1,7 @@
 """The five rules, and the settings by which hands and lenders go."""
 
 from risemarks.errors import BadSettings
-from risemarks.shapes import is_whole
+from risemarks.shapes import is_whole_from
 
 RULES = ("ahead", "apart", "ends", "once", "spoken")
 
@@ -10,7 +10,7 @@ GREATEST_SPAN = 1000000000000
 
 
 def is_span(thing, least):
-    return is_whole(thing) and least <= thing and thing <= GREATEST_SPAN
+    return is_whole_from(thing, least) and thing <= GREATEST_SPAN
 
 
 def is_rule(thing):

@@ -14,8 +14,12 @@ def is_whole(thing):
     return isinstance(thing, int) and not isinstance(thing, bool)
 
 
+def is_whole_from(thing, least):
+    return is_whole(thing) and least <= thing
+
+
 def is_number(thing):
-    return is_whole(thing) and 0 <= thing and thing <= LAST
+    return is_whole_from(thing, 0) and thing <= LAST
 
 
 def is_name(thing):
@@ -27,7 +31,7 @@ def is_name(thing):
 
 
 def is_side(thing):
-    return is_whole(thing) and 1 <= thing and thing <= GREATEST_SIDE
+    return is_whole_from(thing, 1) and thing <= GREATEST_SIDE
 
 
 class Shape:
