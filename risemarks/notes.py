@@ -2,27 +2,27 @@
 
 from risemarks.areas import end_of, ended_at
 
+# What a note without lines reads.
+NOTHING = (0, None, 0, 0)
+
+
+def read_on(told, line):
+    if line[0] == "took":
+        return (line[1], line[2], told[2], told[3])
+    if line[0] == "held":
+        return (told[0], told[1], max(told[2], line[1]), told[3])
+    if line[0] == "heard":
+        return (told[0], told[1], told[2], max(told[3], line[1]))
+    if line[1] != told[0]:
+        return told
+    return (told[0], ended_at(told[1], min(end_of(told[1]), line[2])), told[2], told[3])
+
 
 def read_note(lines):
-    grant = 0
-    area = None
-    held = 0
-    heard = 0
+    told = NOTHING
     for line in lines:
-        if line[0] == "took":
-            grant = line[1]
-            area = line[2]
-        elif line[0] == "held":
-            held = max(held, line[1])
-        elif line[0] == "heard":
-            heard = max(heard, line[1])
-        elif line[1] == grant:
-            area = ended_at(area, min(end_of(area), line[2]))
-    return (grant, area, held, heard)
-
-
-def grant_of(lines):
-    return read_note(lines)[0]
+        told = read_on(told, line)
+    return told
 
 
 def area_of(lines):
