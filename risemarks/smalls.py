@@ -70,8 +70,8 @@ class Small:
         return None if behind == state else behind
 
     def bad(self, state, deed):
-        step = self.step_or_none(state, deed)
-        if deed[0] != "make" or step is None:
+        step = self.step_or_none(state, deed) if deed[0] == "make" else None
+        if step is None:
             return None
         mark = step[0]
         moment = parts_of(self.settings.shape, mark)[0]
