@@ -27,20 +27,22 @@ class Small:
         self.settings = settings
         self.areas = list(areas)
         self.moments = moments
+        # Whoever reads the list may change it: the deeds go by what was handed in.
+        self.ground = tuple(areas)
 
     def deeds(self):
-        told = [("take", grant) for grant in range(1, len(self.areas) + 1)]
+        told = [("take", grant) for grant in range(1, len(self.ground) + 1)]
         told.extend([("write", reading) for reading in range(self.moments)])
         told.extend([("make", reading) for reading in range(self.moments)])
         told.extend([("hear", bound) for bound in range(1, self.moments + 1)])
         return told + [("back",), ("fall",), ("rise",)]
 
     def begin(self):
-        return ((0, 0), NOTHING, 0, (), 0, (None,) * len(self.areas))
+        return ((0, 0), NOTHING, 0, (), 0, (None,) * len(self.ground))
 
     def step(self, stand, deed):
         if deed[0] == "take":
-            return taking(self.settings, stand, deed[1], self.areas[deed[1] - 1])
+            return taking(self.settings, stand, deed[1], self.ground[deed[1] - 1])
         if deed[0] == "write":
             return writing(self.settings, stand, deed[1])
         if deed[0] == "make":

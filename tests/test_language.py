@@ -256,6 +256,74 @@ class Calls(unittest.TestCase):
                 self.assertIn(node, good, where)
 
 
+class Errors(unittest.TestCase):
+    def own(self):
+        return set(bound_names(PACKAGE / "errors.py"))
+
+    def test_errors_are_taken_by_name(self):
+        for where, node in nodes(ast.ExceptHandler):
+            names = {part.id for part in ast.walk(node.type) if isinstance(part, ast.Name)}
+            self.assertLessEqual(names, self.own() | {"KeyError", "ZeroDivisionError", "StopIteration"}, where)
+
+    def test_errors_are_made_on_the_spot(self):
+        for where, node in nodes(ast.Raise):
+            self.assertIsInstance(node.exc, ast.Call, where)
+            self.assertIn(node.exc.func.id, self.own(), where)
+            if node.cause is not None:
+                self.assertIsNone(node.cause.value, where)
+
+    def test_isinstance_asks_for_kinds_that_may_be_asked_for(self):
+        kinds = {"int", "str", "bool", "list", "tuple", "dict"} | self.own()
+        for where, node in nodes(ast.Call):
+            if name_called(node) == "isinstance":
+                names = {part.id for part in ast.walk(node.args[1]) if isinstance(part, ast.Name)}
+                self.assertLessEqual(names, kinds, where)
+
+
+class Kept(unittest.TestCase):
+    def test_lists_and_dicts_of_a_top_are_only_read(self):
+        for path in files():
+            tree = tree_of(path)
+            tops = [node for node in tree.body if isinstance(node, ast.Assign)]
+            held = [node for node in tops if isinstance(node.value, (ast.List, ast.Dict))]
+            for node in held:
+                for part in ast.walk(node.value):
+                    if part is not node.value:
+                        self.assertNotIsInstance(part, (ast.List, ast.Dict), path.name)
+            names = {node.targets[0].id for node in held}
+            good = set()
+            for node in ast.walk(tree):
+                if isinstance(node, ast.Subscript) and isinstance(node.ctx, ast.Load):
+                    good.add(node.value)
+                if isinstance(node, ast.Compare):
+                    good.update(node.comparators)
+                if isinstance(node, (ast.For, ast.comprehension)):
+                    good.add(node.iter)
+            for node in ast.walk(tree):
+                if isinstance(node, ast.Name) and isinstance(node.ctx, ast.Load) and node.id in names:
+                    self.assertIn(node, good, f"{path.name}:{node.lineno}")
+
+    def test_what_a_loop_walks_is_not_changed_in_it(self):
+        changing = ("append", "clear", "extend", "insert", "pop", "remove", "reverse", "setdefault", "update")
+        for where, node in nodes(ast.For):
+            walked = [node.iter]
+            if isinstance(node.iter, ast.Call) and name_called(node.iter) in WALKED:
+                walked += node.iter.args + [getattr(node.iter.func, "value", None)]
+            walked = {ast.dump(part) for part in walked if isinstance(part, (ast.Name, ast.Attribute))}
+            for part in [part for row in node.body for part in ast.walk(row)]:
+                if isinstance(part, ast.Call) and isinstance(part.func, ast.Attribute) and part.func.attr in changing:
+                    self.assertNotIn(ast.dump(part.func.value), walked, where)
+                if isinstance(part, ast.Subscript) and isinstance(part.ctx, ast.Store):
+                    self.assertNotIn(ast.dump(part.value), walked, where)
+
+    def test_making_an_object_gives_back_nothing(self):
+        for where, node in nodes(ast.FunctionDef):
+            if node.name == "__init__":
+                self.assertFalse([part for part in ast.walk(node) if isinstance(part, ast.Return)], where)
+            else:
+                self.assertFalse(node.name.startswith("_"), where)
+
+
 class Names(unittest.TestCase):
     def test_names_that_are_read(self):
         for where, node in nodes(ast.Name):

@@ -59,6 +59,8 @@ class Testing(unittest.TestCase):
             state = small.after(state, deed)
             self.assertIn(state, [other for other, came, place in layer])
         self.assertEqual(small.bad(state, deeds[-1]), word)
+        hand = Beside(small)
+        self.assertEqual([hand.do(deed) for deed in deeds], [None] * (len(deeds) - 1) + [word])
 
 
 class Row:
@@ -88,15 +90,6 @@ class SixCases(Testing):
             told = look(small)
             self.assertEqual((told[0], len(told[2])), (word, count), left)
             self.check(small, told)
-
-    def test_the_deeds_done_by_a_hand(self):
-        for left in RULES:
-            small = small_of(rules=without(left))
-            word, layers, deeds = look(small)
-            if word == "never":
-                continue
-            hand = Beside(small)
-            self.assertEqual([hand.do(deed) for deed in deeds], [None] * (len(deeds) - 1) + [word])
 
     def test_no_shorter_row_of_deeds_is_bad(self):
         # By a walk through all rows of so many deeds, done by hands.

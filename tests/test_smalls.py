@@ -284,6 +284,13 @@ class NothingIsChanged(unittest.TestCase):
         self.assertEqual(small.after(small.begin(), ("take", 1))[1][1], (0, 0, 2))
         self.assertEqual(areas, [AREA, AREA])
 
+    def test_the_list_that_is_read_of_it_may_be_changed(self):
+        small, other = small_of(), small_of()
+        small.areas.append(AREA)
+        small.areas[0] = AREA
+        self.assertEqual((small.deeds(), small.begin()), (other.deeds(), other.begin()))
+        self.assertEqual(small.after(small.begin(), ("take", 1)), other.after(other.begin(), ("take", 1)))
+
     def test_what_was_told_may_be_changed(self):
         small = small_of()
         told = small.deeds()

@@ -76,6 +76,14 @@ class Being(Testing):
         self.refuse(world, ("ask", "cid"), "NoHand", "cid")
         self.assertEqual(names, ["zed", "ann", "cid"])
 
+    def test_the_list_that_is_read_of_it_may_be_changed(self):
+        world = World(settings_of(), ["ann", "bob"])
+        world.names.append("cid")
+        world.names[0] = "zed"
+        self.assertEqual(answer(lambda: world.do(("ask", "cid"))), ("NoHand", "cid"))
+        self.assertEqual(answer(lambda: world.do(("ask", "zed"))), ("NoHand", "zed"))
+        self.assertEqual(answer(lambda: world.do(("ask", "ann"))), ("told", 1))
+
     def test_arguments_by_name(self):
         world = World(names=["ann"], settings=settings_of())
         self.assertEqual(world.do(deed=("ask", "ann")), 1)
